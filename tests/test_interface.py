@@ -1,0 +1,82 @@
+"""Names, files, arguments and attributes of the interface, for what has been built so far."""
+
+import importlib
+import inspect
+import unittest
+
+from blindrepair.codes import ReadTable, WriteTable
+from blindrepair.merging import Merged, OneToOne
+from blindrepair.misreadings import Misreading
+from blindrepair.rights import Right
+from blindrepair.sound import Alike, Sound, Still, Unsound
+
+NAMES = {
+    "errors": {"RepairError": None},
+    "papers": {"Verdict": None},
+    "codes": {"WriteTable": ["codes"], "ReadTable": ["signs"], "misread_by": ["write", "read"],
+              "reread": ["text", "write", "read"], "written": ["misreading", "read"]},
+    "misreadings": {"Misreading": ["images", "keeps"]},
+    "rows": {"along": ["misreadings", "text", "row"]},
+    "merging": {"merging": ["misreading"], "OneToOne": ["leads", "dead"], "Merged": ["one", "other"],
+                "shows_merging": ["misreading", "value"]},
+    "sound": {"sound": ["misreadings"], "Sound": ["papers"], "Unsound": ["one", "first", "other", "second"],
+              "Alike": ["leads", "dead"], "Still": ["side", "living", "dead"]},
+    "look_sound": {"shows_sound": ["misreadings", "value"]},
+    "rights": {"Right": ["standings"]}}
+
+METHODS = {
+    Misreading: {"__contains__": None, "__len__": [], "__iter__": [], "__getitem__": None, "__call__": ["text"],
+                 "step": ["text"], "__rshift__": None, "__pow__": None, "__or__": None, "__le__": None, "__eq__": None,
+                 "only": ["letters"], "same": ["letters"], "__str__": [], "read": ["text"]},
+    WriteTable: {"__contains__": None, "__len__": [], "__iter__": [], "__getitem__": None, "__call__": ["text"],
+                 "__or__": None, "__eq__": None},
+    ReadTable: {"__contains__": None, "__len__": [], "__iter__": [], "__getitem__": None, "__call__": ["numbers"],
+                "__invert__": [], "__eq__": None},
+    Right: {"words": ["words"], "over": ["letters"], "avoiding": ["letters", "words"], "__len__": [], "__bool__": [],
+            "__contains__": None, "__getitem__": None, "__and__": None, "__or__": None, "__sub__": None, "__le__": None,
+            "after": ["text"], "ahead": ["text"], "without": ["letters"], "least": [], "texts": ["most"], "count": ["n"],
+            "__eq__": None, "__str__": [], "read": ["text"]},
+    OneToOne: {"__eq__": None, "__bool__": []}, Merged: {"__eq__": None, "__bool__": []},
+    Sound: {"__eq__": None, "__bool__": []}, Unsound: {"__eq__": None, "__bool__": []},
+    Alike: {"__eq__": None}, Still: {"__eq__": None}}
+
+
+class InterfaceTests(unittest.TestCase):
+
+    def test_each_name_is_defined_in_its_file(self):
+        for file, names in NAMES.items():
+            module = importlib.import_module(f"blindrepair.{file}")
+            for name, parameters in names.items():
+                value = vars(module)[name]
+                self.assertEqual(value.__module__, f"blindrepair.{file}")
+                if parameters is not None:
+                    self.assertEqual(list(inspect.signature(value).parameters), parameters, name)
+
+    def test_each_method_is_defined_in_the_body_of_its_class(self):
+        for kind, methods in METHODS.items():
+            for name, parameters in methods.items():
+                self.assertIn(name, vars(kind), kind)
+                told = vars(kind)[name]
+                function = getattr(told, "__func__", told)
+                found = list(inspect.signature(function).parameters)
+                if isinstance(told, staticmethod):
+                    self.assertEqual(found, parameters)
+                elif parameters is not None:
+                    self.assertEqual(found[1:], parameters)
+
+    def test_static_and_class_methods(self):
+        for kind, name, sort in ((Misreading, "same", staticmethod), (Misreading, "read", classmethod),
+                                 (Right, "words", staticmethod), (Right, "over", staticmethod),
+                                 (Right, "avoiding", staticmethod), (Right, "read", classmethod)):
+            self.assertIs(type(vars(kind)[name]), sort)
+
+    def test_attributes_are_set_on_each_object(self):
+        for misreading in (Misreading({}), Misreading.same("a"), Misreading.read("a:b"), Misreading({"a": "b"}) ** 2):
+            self.assertIn("changed", vars(misreading))
+        for right in (Right(({}, True)), Right.words(), Right.over("a"), Right.read("end"), Right.over("a") - Right.words()):
+            self.assertIn("standings", vars(right))
+            self.assertIn("letters", vars(right))
+
+    def test_the_defaults(self):
+        self.assertEqual(inspect.signature(Misreading).parameters["keeps"].default, "")
+        self.assertEqual(vars(Right)["MOST"], 8)
