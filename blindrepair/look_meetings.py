@@ -8,42 +8,46 @@ def right_leads(first, second, leads, dead):
     """Whether any two values are right leads and dead rests of two lists of pairs."""
     known = told_leads(leads)
     lost = told_rests(dead)
-    if known is None or lost is None or any([rest in lost for rest in known]):
+    if not are_apart(known, lost):
         return False
-    places = [START, *known]
     known[START] = EVEN
     known[END] = EVEN
-    for place in places:
-        for taker, label, target in moves_from(first, second, place):
-            if target not in lost:
-                if target not in known or known[target] != lead_behind(known[place], taker, label):
-                    return False
-    return stays_in(first, second, lost)
+    return stays_in(first, second, lost) and all(
+        [target in known and known[target] == lead_behind(known[place], taker, label)
+         for place, taker, label, target in moves_beside(first, second, known, lost)])
 
 
 def right_still(first, second, living, dead, side, changed):
     """Whether two values are right living and dead rests, and no living step of a side has a changed letter."""
     known = told_rests(living)
     lost = told_rests(dead)
-    if known is None or lost is None or any([rest in lost for rest in known]):
+    if not are_apart(known, lost):
         return False
-    places = [START, *known]
+    known[START] = True
     known[END] = True
+    return stays_in(first, second, lost) and all(
+        [target in known and (taker != side or label not in changed)
+         for place, taker, label, target in moves_beside(first, second, known, lost)])
+
+
+def are_apart(known, lost):
+    """Whether both are told, and no rest stands in both."""
+    return known is not None and lost is not None and not any([rest in lost for rest in known])
+
+
+def moves_beside(first, second, places, lost):
+    """The steps from some places that do not lead to a dead rest, each with the place ahead of it."""
+    found = []
     for place in places:
         for taker, label, target in moves_from(first, second, place):
             if target not in lost:
-                if target not in known or (taker == side and label in changed):
-                    return False
-    return stays_in(first, second, lost)
+                found.append((place, taker, label, target))
+    return found
 
 
 def stays_in(first, second, rests):
     """Whether each step from each of some rests leads to one of them."""
-    for rest in rests:
-        for _, _, target in moves_from(first, second, rest):
-            if target not in rests:
-                return False
-    return True
+    return not moves_beside(first, second, rests, rests)
 
 
 def is_rest(ahead, rest):
