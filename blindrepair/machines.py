@@ -154,10 +154,12 @@ def told_by_avoiding(letters, words):
         branches, ends = tree[at]
         bars[at] = ends or bars[back[at]]
         for letter in letters:
-            elsewhere = rows[back[at]][0].get(letter, 0) if at > 0 else 0
+            # The beginning has no steps yet when it is looked at itself: without a branch they lead back to it.
+            elsewhere = rows[back[at]][0].get(letter, 0)
             to = branches.get(letter, elsewhere)
             rows[at][0][letter] = to
-            if letter in branches and to not in back:
+            # Only a branch leads to a standing that has not been met, as all others are of shorter texts.
+            if to not in back:
                 back[to] = elsewhere
                 queue.append(to)
     return [({}, False) if bars.get(at, False) else row for at, row in enumerate(rows)]

@@ -139,10 +139,11 @@ def meeting_with(meetings, side, labels):
 
 def rests_of(meetings, living):
     """The living or the dead rests that can be reached, ascending."""
-    rests = [place for place in meetings.moves if place not in (START, END) and (place in meetings.living) == living]
+    places = [place for place in meetings.moves if (place in meetings.living) == living]
     found = []
+    # The start and the end are no rests, and stand on no side.
     for side in SIDES:
-        found.extend([(side, word) for word in sorted([str(rest) for ahead, rest in rests if ahead == side])])
+        found.extend([(side, word) for word in sorted([str(rest) for ahead, rest in places if ahead == side])])
     return tuple(found)
 
 
@@ -154,7 +155,7 @@ def leads_of(meetings):
 def lead_behind(lead, taker, label):
     """The lead when a row takes a pair with this label; None if there is none."""
     led, more = lead
-    if led == taker or more == "":
+    if led == taker:
         return (taker, more + label)
     if more.startswith(label):
         return EVEN if more == label else (led, more[len(label):])

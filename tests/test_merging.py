@@ -5,7 +5,7 @@ from blindrepair.errors import BadTable, TooMany
 from blindrepair.merging import Merged, OneToOne, merging, shows_merging
 from blindrepair.misreadings import Misreading
 from blindrepair.sound import Alike
-from tests.helpers import Checks, any_values, texts, values_but
+from tests.helpers import Checks, any_values, is_text, texts, values_but
 from tests.meeting_ways import Plain
 from tests.test_misreadings import images_of, some_misreadings
 
@@ -194,6 +194,25 @@ class ShowingTests(Checks, unittest.TestCase):
                 dead[at] = wrong
                 self.assertIs(shows_merging(made, OneToOne(found.leads, tuple(dead))), False)
                 self.assertIs(shows_merging(made, OneToOne(found.leads, found.dead + (wrong,))), False, wrong)
+
+    def test_more_rests_that_are_none(self):
+        """No step leads to these and none goes on from them, but they are not what a rest or a lead is."""
+        found = merging(once())
+        sides = [*any_values(), "One", "start", "end", "two "]
+        for side in sides:
+            self.assertIs(shows_merging(once(), OneToOne(found.leads, ((side, "zz"),))), False)
+            self.assertIs(shows_merging(once(), OneToOne(found.leads + ((side, "zz", "one", "a"),), ())), False)
+            self.assertIs(shows_merging(once(), OneToOne(found.leads + (("one", "zz", side, "a"),), ())), False)
+        for text in [*values_but(is_text), "z" * 2001]:
+            self.assertIs(shows_merging(once(), OneToOne(found.leads, (("one", text),))), False)
+            self.assertIs(shows_merging(once(), OneToOne(found.leads + (("one", text, "one", "a"),), ())), False)
+            self.assertIs(shows_merging(once(), OneToOne(found.leads + (("one", "zz", "one", text),), ())), False)
+        for lead, right in ((("one", ""), True), (("two", "a"), True), (("two", ""), False), (("one", "z" * 2000), True)):
+            self.assertIs(shows_merging(once(), OneToOne(found.leads + (("one", "zz") + lead,), ())), right)
+        for side in ("one", "two"):
+            self.assertIs(shows_merging(Misreading({}), OneToOne((), ((side, "zz"),))), True)
+            self.assertIs(shows_merging(Misreading({}), OneToOne((), ((side, ""),))), False)
+            self.assertIs(shows_merging(Misreading({}), OneToOne(((side, "", "one", ""),), ())), False)
 
     def test_no_paper_is_right_for_a_misreading_that_merges(self):
         """Whatever small paper is made up for one that is not one to one, it is not right."""
