@@ -1,7 +1,8 @@
 """Checks of the arguments that many functions take."""
 
-from blindrepair.errors import BadList, BadTable
+from blindrepair.errors import BadList, BadRight, BadTable
 from blindrepair.misreadings import Misreading
+from blindrepair.rights import Right
 
 MOST_MISREADINGS = 4
 
@@ -19,3 +20,9 @@ def check_misreadings(value):
     for at, item in enumerate(value):
         if not isinstance(item, Misreading):
             raise BadList(at)
+
+
+def check_right(value):
+    """Raises an error for what is no Right."""
+    if not isinstance(value, Right):
+        raise BadRight("right")

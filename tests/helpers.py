@@ -2,12 +2,17 @@
 
 import itertools
 
+from blindrepair.alike import Parted, Same
 from blindrepair.codes import ReadTable, WriteTable
+from blindrepair.effects import effect_of
 from blindrepair.errors import BadLetter, RepairError
 from blindrepair.merging import Merged, OneToOne
 from blindrepair.misreadings import Misreading
+from blindrepair.numbers import numbers_of
+from blindrepair.origins import Origin
 from blindrepair.rights import Right
 from blindrepair.sound import Alike, Sound, Still, Unsound
+from blindrepair.verdicts import Calm, Clash, Entry
 
 
 def any_values():
@@ -15,13 +20,29 @@ def any_values():
     return [None, True, False, 0, 1, -1, 2, 255, 256, 10 ** 69, "", "a", "b", "A", "ab", "aB", "a b", " ", "-", "a:b",
             "a\n", "\n", "1", "end", (), [], {}, ("a",), ["a"], [""], {"a": "b"}, {"a": 1}, {1: "a"}, (0,), [0], (0, "a"),
             ("a", "b"), ({}, True), ({"a": 0}, True), [({}, True)], ((((("a",),),),),), Misreading({"a": "b"}),
-            Right.words("a"), WriteTable({"a": (97,)}), ReadTable({97: "a"}), OneToOne((), ()), Merged("a", "b"),
+            Right.words("a"), effect_of([Misreading({"a": "b"})], Right.words("a"), (0,)),
+            Clash("a", (0,)), Calm(()), Entry(None, None, (0,), ()),
+            Origin((), "a"), numbers_of(Misreading({"a": "b"}), Right.words("a")), Same((), ()), Parted("a"), WriteTable({"a": (97,)}), ReadTable({97: "a"}), OneToOne((), ()), Merged("a", "b"),
             Sound(()), Unsound("a", 0, "b", 0), Alike((), ()), Still("one", (), ()), BadLetter(1), RepairError("no")]
 
 
 def values_but(fits):
     """Values of every kind for which a test does not hold."""
     return [value for value in any_values() if not fits(value)]
+
+
+def wrong_lists():
+    """Wrong values for a list of misreadings, each with the index that the error tells."""
+    same = Misreading.same("a")
+    for value in values_but(lambda value: type(value) in (list, tuple) and 1 <= len(value) <= 4):
+        yield value, None
+    for wrong in ([], (), [same] * 5, (same,) * 5, [5] * 5):
+        yield wrong, None
+    for value in values_but(lambda value: isinstance(value, Misreading)):
+        for at in range(4):
+            made = [same] * at + [value] + [5] * (3 - at)
+            yield made, at
+            yield tuple(made), at
 
 
 def is_letter(value):

@@ -146,8 +146,11 @@ def forbidden_nodes(file):
             if isinstance(sign, (ast.Is, ast.IsNot)) and not isinstance(sides[at + 1], ast.Constant):
                 yield "L20", node.lineno, "is"
     for node in file.nodes(ast.BinOp):
-        if isinstance(node.op, ast.Pow) or isinstance(node.op, ast.Mod):
-            yield "L27", node.lineno, "power or remainder: look at the rules first"
+        literal = isinstance(node.right, ast.Constant) and isinstance(node.left, ast.Constant)
+        if isinstance(node.op, ast.Pow) and not literal:
+            yield "L27", node.lineno, "power"
+        if isinstance(node.op, ast.Mod) and not (isinstance(node.left, ast.BinOp) and isinstance(node.left.op, ast.Sub)):
+            yield "L7", node.lineno, "remainder of what is not plainly a number"
 
 
 def names(file):
@@ -196,7 +199,7 @@ def calls(file, own_methods):
             yield "L24", node.lineno, name
         if name == "reversed" and called(node.args[0]) not in ("list", "tuple", "sorted", "range"):
             yield "L5", node.lineno, "reversed"
-        if name in BUILTINS and node.keywords:
+        if name in BUILTINS and node.keywords and not (name == "sorted" and sorted_by_length(node)):
             yield "L22", node.lineno, "keyword"
         if isinstance(node.func, ast.Attribute) and node.func.attr not in METHODS | own_methods | {"__init__"}:
             yield "L25", node.lineno, f"method {node.func.attr}"
@@ -208,8 +211,15 @@ def calls(file, own_methods):
                 yield "L7", node.lineno, "star"
 
 
+def sorted_by_length(node):
+    """Whether a call has key=len, and nothing else by name."""
+    return [(each.arg, isinstance(each.value, ast.Name) and each.value.id) for each in node.keywords] == [("key", "len")]
+
+
 def plain_strings(node):
     """Whether the argument of sorted is a list comprehension of str(..) or len(..), or of two one is a number."""
+    if sorted_by_length(node):
+        return True
     if len(node.args) == 1 and isinstance(node.args[0], ast.ListComp):
         return called(node.args[0].elt) in ("str", "len", "int")
     return len(node.args) == 2 and any(isinstance(each, ast.Constant) or called(each) == "len" for each in node.args)
@@ -310,7 +320,37 @@ def all_faults(texts):
         for check in (sizes, characters, words, imports, module_level, forbidden_nodes, names, classes):
             found += [(file.name, *fault) for fault in check(file)]
         found += [(file.name, *fault) for fault in calls(file, own_methods)]
-    return found + list(operators(files)) + list(cycles(files)) + list(origins(files))
+    return found + list(operators(files)) + list(cycles(files)) + list(origins(files)) + list(shared_names(files))
+
+
+def marks(node):
+    """The names of the decorators of a function."""
+    return [each.id for each in node.decorator_list if isinstance(each, ast.Name)]
+
+
+def shared_names(files):
+    """L5, L18, L23: names of properties, of static and class methods and of generators mean nothing else."""
+    stored = [(file, node) for file in files for node in file.nodes(ast.Attribute) if isinstance(node.ctx, ast.Store)]
+    functions = [(file, node) for file in files for node in file.functions()]
+    plain = {node.name for file, node in functions if not marks(node)}
+    marked = {node.name: marks(node)[0] for file, node in functions if marks(node)}
+    for file, node in stored:
+        if node.attr in marked:
+            yield file.name, "L5", node.lineno, f"{node.attr} is stored, and it is a {marked[node.attr]} elsewhere"
+    for file, node in functions:
+        if node.name in marked and not marks(node) and isinstance(file.above[node], ast.ClassDef):
+            yield file.name, "L5", node.lineno, f"{node.name} is a plain method, and a {marked[node.name]} elsewhere"
+        if "property" in marks(node) and (node.name in plain or node.name in METHODS):
+            yield file.name, "L5", node.lineno, f"{node.name} is a property and a function"
+        generator = any(isinstance(each, (ast.Yield, ast.YieldFrom)) for each in ast.walk(node))
+        if generator and [other.name for _, other in functions].count(node.name) > 1:
+            yield file.name, "L23", node.lineno, f"{node.name} is a generator and another function"
+    for file in files:
+        for node in file.classes():
+            methods = {each.name for each in node.body if isinstance(each, ast.FunctionDef)}
+            for each in ast.walk(node):
+                if isinstance(each, ast.Attribute) and isinstance(each.ctx, ast.Store) and each.attr in methods:
+                    yield file.name, "L18", each.lineno, f"{each.attr} is a method and an attribute"
 
 
 def cycles(files):

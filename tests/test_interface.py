@@ -4,11 +4,17 @@ import importlib
 import inspect
 import unittest
 
+from blindrepair.alike import Parted, Same
 from blindrepair.codes import ReadTable, WriteTable
+from blindrepair.effects import Effect
 from blindrepair.merging import Merged, OneToOne
 from blindrepair.misreadings import Misreading
+from blindrepair.numbers import Numbers
+from blindrepair.origins import Origin
+from blindrepair.powers import Powers
 from blindrepair.rights import Right
 from blindrepair.sound import Alike, Sound, Still, Unsound
+from blindrepair.verdicts import Calm, Clash, Entry
 
 NAMES = {
     "errors": {"RepairError": None},
@@ -22,7 +28,21 @@ NAMES = {
     "sound": {"sound": ["misreadings"], "Sound": ["papers"], "Unsound": ["one", "first", "other", "second"],
               "Alike": ["leads", "dead"], "Still": ["side", "living", "dead"]},
     "look_sound": {"shows_sound": ["misreadings", "value"]},
-    "rights": {"Right": ["standings"]}}
+    "rights": {"Right": ["standings"]},
+    "effects": {"effect_of": ["misreadings", "right", "row"], "effects": ["misreadings", "right"]},
+    "powers": {"Powers": ["misreading", "right"]},
+    "verdicts": {"decide": ["misreadings", "right"], "Calm": ["entries"], "Clash": ["text", "row"],
+                 "Entry": ["first", "parent", "nexts", "pairs"], "risk_of": ["misreadings", "right", "text"]},
+    "look_verdicts": {"shows_verdict": ["misreadings", "right", "value"]},
+    "origins": {"Origin": ["row", "text"], "origins": ["misreadings", "text"],
+                "come_of": ["misreadings", "text", "origin"], "right_ones": ["misreadings", "right", "text"],
+                "repaired": ["misreadings", "right", "text"]},
+    "look_origins": {"shows_origin": ["misreadings", "text", "row", "origin"]},
+    "numbers": {"numbers_of": ["misreading", "right"], "Numbers": None, "turned_by": ["misreading", "right", "k"],
+                "settles": ["misreading", "right", "q"], "least_remainder": ["misreading", "right"]},
+    "marks": {"least_mark": ["misreadings", "letters", "most"], "shows_mark": ["misreadings", "letters", "mark"]},
+    "alike": {"alike": ["one", "other", "right"], "Same": ["margins", "dead"], "Parted": ["text"],
+              "shows_alike": ["one", "other", "right", "paper"]}}
 
 METHODS = {
     Misreading: {"__contains__": None, "__len__": [], "__iter__": [], "__getitem__": None, "__call__": ["text"],
@@ -38,7 +58,14 @@ METHODS = {
             "__eq__": None, "__str__": [], "read": ["text"]},
     OneToOne: {"__eq__": None, "__bool__": []}, Merged: {"__eq__": None, "__bool__": []},
     Sound: {"__eq__": None, "__bool__": []}, Unsound: {"__eq__": None, "__bool__": []},
-    Alike: {"__eq__": None}, Still: {"__eq__": None}}
+    Alike: {"__eq__": None}, Still: {"__eq__": None},
+    Effect: {"__iter__": [], "__getitem__": None, "single": ["letter"], "ahead": ["misreading"],
+             "behind": ["text", "start"], "changes": ["text"], "__contains__": None, "__eq__": None},
+    Powers: {"__len__": [], "__iter__": [], "__call__": ["k"], "turns": ["text", "k"]},
+    Calm: {"__eq__": None, "__bool__": []}, Clash: {"__eq__": None, "__bool__": []}, Entry: {"__eq__": None},
+    Origin: {"__eq__": None},
+    Numbers: {"__contains__": None, "__len__": [], "__bool__": [], "__eq__": None, "walk": ["first"]},
+    Same: {"__eq__": None, "__bool__": []}, Parted: {"__eq__": None, "__bool__": []}}
 
 
 class InterfaceTests(unittest.TestCase):
@@ -80,3 +107,10 @@ class InterfaceTests(unittest.TestCase):
     def test_the_defaults(self):
         self.assertEqual(inspect.signature(Misreading).parameters["keeps"].default, "")
         self.assertEqual(vars(Right)["MOST"], 8)
+        self.assertEqual(inspect.signature(Effect.behind).parameters["start"].default, 0)
+        self.assertEqual(inspect.signature(Numbers.walk).parameters["first"].default, 1)
+
+    def test_properties(self):
+        for kind in (Powers, Numbers):
+            for name in ("begin", "period"):
+                self.assertIs(type(vars(kind)[name]), property)

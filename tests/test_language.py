@@ -43,6 +43,10 @@ class LanguageTests(unittest.TestCase):
                 ("L20", "def f(x, y):\n    return x is y\n"), ("L22", "def f(x):\n    return sorted([str(y) for y in x], reverse=True)\n"),
                 ("L23", "def f(x):\n    return zip(x, x)\n"), ("L24", "def f(x):\n    return set(x)\n"),
                 ("L25", "def f(x):\n    return x.encode_all()\n"), ("L26", "def f(x):\n    x.items = 1\n"),
+                ("L7", "def f(x):\n    return x % 2\n"), ("L27", "def f(x):\n    return 2 ** x\n"),
+                ("L18", "class A:\n    def b(self):\n        self.b = 1\n"),
+                ("L5", "class A:\n    @property\n    def b(self):\n        return 1\n\n\ndef f(x):\n    x.b = 1\n"),
+                ("L23", "def f(x):\n    yield x\n\n\nclass A:\n    def f(self):\n        return 1\n"),
                 ("L27", "X = \"%\"\n"), ("L28", "class A:\n    def __len__(self):\n        return self.n\n")):
             self.assertIn(rule, [fault[1] for fault in all_faults({"file.py": text})], text)
 

@@ -1,14 +1,19 @@
 import unittest
 
 from blindrepair import papers
+from blindrepair.alike import Parted, Same
 from blindrepair.merging import Merged, OneToOne
 from blindrepair.misreadings import Misreading
+from blindrepair.origins import Origin
 from blindrepair.papers import Verdict
 from blindrepair.sound import Alike, Sound, Still, Unsound
+from blindrepair.verdicts import Calm, Clash, Entry
 from tests.helpers import Checks, any_values, like
 
 FIELDS = {OneToOne: ["leads", "dead"], Merged: ["one", "other"], Sound: ["papers"],
-          Unsound: ["one", "first", "other", "second"], Alike: ["leads", "dead"], Still: ["side", "living", "dead"]}
+          Unsound: ["one", "first", "other", "second"], Alike: ["leads", "dead"], Still: ["side", "living", "dead"],
+          Calm: ["entries"], Clash: ["text", "row"], Entry: ["first", "parent", "nexts", "pairs"],
+          Origin: ["row", "text"], Same: ["margins", "dead"], Parted: ["text"]}
 
 
 class PaperTests(Checks, unittest.TestCase):
@@ -28,16 +33,16 @@ class PaperTests(Checks, unittest.TestCase):
                         self.assertFalse(one != other)
 
     def test_they_are_equal_if_all_attributes_are(self):
+        lefts = [value for value in any_values() if not isinstance(value, ValueError)]
+        rights = [value for value in any_values() if not isinstance(value, ValueError)]
         for kind, fields in FIELDS.items():
             for at in range(len(fields)):
-                for first in range(len(any_values())):
-                    for second in range(len(any_values())):
-                        left, right = any_values()[first], any_values()[second]
-                        if isinstance(left, ValueError) or isinstance(right, ValueError):
-                            continue
-                        values, others = ["x"] * len(fields), ["x"] * len(fields)
-                        values[at], others[at] = left, right
-                        self.assertEqual(kind(*values) == kind(*others), first == second, (left, right))
+                before, behind = ["x"] * at, ["x"] * (len(fields) - at - 1)
+                ones = [kind(*before, value, *behind) for value in lefts]
+                others = [kind(*before, value, *behind) for value in rights]
+                for first, one in enumerate(ones):
+                    for second, other in enumerate(others):
+                        self.assertEqual(one == other, first == second, (lefts[first], rights[second]))
 
     def test_each_attribute_counts(self):
         for kind, fields in FIELDS.items():
@@ -92,13 +97,16 @@ class PaperTests(Checks, unittest.TestCase):
 
     def test_the_first_one_is_true_and_the_other_one_false(self):
         for paper, holds in ((OneToOne((), ()), True), (Merged("a", "b"), False), (Sound(()), True),
-                             (Unsound("a", 0, "b", 0), False), (OneToOne(None, None), True), (Sound(None), True)):
+                             (Unsound("a", 0, "b", 0), False), (OneToOne(None, None), True), (Sound(None), True),
+                             (Calm(()), True), (Clash("a", (0,)), False), (Same((), ()), True), (Parted("a"), False)):
             self.assertIs(bool(paper), holds)
             self.assertIsInstance(paper, Verdict)
             for name in ("__init__", "__eq__", "__bool__"):
                 self.assertIn(name, vars(type(paper)))
         self.assertNotIsInstance(Alike((), ()), Verdict)
         self.assertNotIsInstance(Still("one", (), ()), Verdict)
+        self.assertNotIsInstance(Entry(None, None, (0,), ()), Verdict)
+        self.assertNotIsInstance(Origin((), "a"), Verdict)
 
     def test_verdict_is_defined_in_papers(self):
         self.assertEqual(Verdict.__module__, papers.__name__)
