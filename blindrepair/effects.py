@@ -88,7 +88,7 @@ class Search:
         self.more = False
 
     def reaches(self, number):
-        """Whether there is an effect with this number among the first ones, as many as can be."""
+        """Whether there is an effect with this number. No more are kept than can be."""
         while len(self.found) <= number and self.level:
             self.level = self.next_level()
         return number < len(self.found)
@@ -115,9 +115,11 @@ class Search:
         self.rows.append((first,) + self.rows[parent])
         self.beginnings.append((first, parent))
 
-    def check_all(self):
-        """Raises an error if there are more effects."""
-        if self.reaches(MOST_EFFECTS) or self.more:
+    def finish(self):
+        """Finds all effects. Raises an error if there are too many."""
+        while self.level:
+            self.level = self.next_level()
+        if self.more:
             raise TooMany("effects", MOST_EFFECTS)
 
 
@@ -137,7 +139,7 @@ def effects(misreadings, right):
     check_misreadings(misreadings)
     check_right(right)
     search = Search(misreadings, right)
-    search.check_all()
+    search.finish()
     for row, effect in zip(search.rows, search.found):
         yield row, effect
 

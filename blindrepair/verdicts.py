@@ -63,7 +63,7 @@ def decide(misreadings, right):
         if text is not None:
             return Clash(text, search.rows[len(looked)])
         looked.append(ascending(right, ways))
-    search.check_all()
+    search.finish()
     return Calm(tuple([entry_of(search, at, pairs) for at, pairs in enumerate(looked)]))
 
 
@@ -81,7 +81,7 @@ def risk_of(misreadings, right, text):
         if text in effect and effect.changes(text):
             return search.rows[at]
         at += 1
-    search.check_all()
+    search.finish()
     return None
 
 

@@ -146,6 +146,9 @@ class EffectTests(Checks, unittest.TestCase):
         self.assertFalse(effect_of([same], Right(({"a": 0}, True)), ()) == effect_of([same], Right(({"b": 0}, True)), ()))
         self.assertFalse(effect_of([Misreading({})], Right.words(), ()) == effect_of([Misreading({})], Right.words(""), ()))
         self.assertFalse(base == effect_of([WRONG, Misreading({"z": "z"})], GOOD, (0,)))
+        none = Misreading({})
+        self.assertFalse(effect_of([Misreading.same("a"), none], Right.words(""), (1,))
+                         == effect_of([Misreading.same("b"), none], Right.words(""), (1,)))
         for value in any_values():
             if not like(value, effect_of([Misreading({"a": "b"})], Right.words("a"), (0,))):
                 self.assertFalse(effect_of([Misreading({"a": "b"})], Right.words("a"), (0,)) == value)

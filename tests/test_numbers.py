@@ -103,8 +103,11 @@ class NumbersTests(Checks, unittest.TestCase):
             self.assertIs(k in ring, k % 3 != 0)
             self.assertIs(-k in ring, False)
             self.assertIs(k in few, False)
-        for value in (0, -1, -3, True, False, 1.0, "1", (1,), None):
+        all_numbers = numbers_of(READ("f:f x:xf"), Right.over("xf"))
+        self.assertEqual(all_numbers.truths, (True,))
+        for value in (0, -1, -2, -3, True, False, 1.0, "1", (1,), None):
             self.assertIs(value in ring, False)
+            self.assertIs(value in all_numbers, False)
 
     def test_equal(self):
         made = [numbers_of(misreading, right) for misreading, right in [*ring_cases(), *numbers_cases(603, 40)]]
