@@ -1,8 +1,8 @@
 """A look at the papers of decide: whether they are right."""
 
 from blindrepair.checks import check_misreadings, check_right
-from blindrepair.effects import MOST_EFFECTS, unread
-from blindrepair.letters import LONGEST, is_index
+from blindrepair.effects import MOST_EFFECTS, effect_of, unread
+from blindrepair.letters import is_index
 from blindrepair.verdicts import BEGINNING, Calm, Clash, Entry, is_clash, open_steps, triples_behind
 
 
@@ -21,13 +21,9 @@ def right_clash(misreadings, right, text, row):
         return False
     if not row or not all([is_index(index, len(misreadings)) for index in row]):
         return False
-    image = text
-    for index in row:
-        # An image never gets shorter again: one that is too long for a text cannot become a right text.
-        if misreadings[index].first_barred(image) is not None or len(image) > LONGEST:
-            return False
-        image = misreadings[index].image(image)
-    return image != text and image in right
+    # Images can have any length, so none is made: the effect of the row tells whether it is right and another text.
+    effect = effect_of(misreadings, right, row)
+    return text in effect and effect.changes(text)
 
 
 def right_calm(misreadings, right, entries):

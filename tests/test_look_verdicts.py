@@ -59,6 +59,19 @@ def plain_closed(right, plain, pairs):
     return True
 
 
+def plain_clash_by(misreadings, right, text, row):
+    """Whether a row turns a right text into another one, by the plain effect of the row."""
+    plain = plain_effect(misreadings, right, ())
+    for index in row[::-1]:
+        plain = step_ahead(plain, misreadings[index])
+    if any(plain[letter] is None for letter in text):
+        return False
+    at = 0
+    for letter in text:
+        at = plain[letter][0][at] if at is not None else None
+    return at is not None and right.standings[at][1] and any(plain[letter][1] != letter for letter in text)
+
+
 def copy_of(entries):
     return [[entry.first, entry.parent, entry.nexts, entry.pairs] for entry in entries]
 
@@ -131,13 +144,53 @@ class ClashTests(Checks, unittest.TestCase):
 
     def test_images_of_more_than_2000_letters(self):
         four, over = READ("a:aaaa"), Right.over("a")
-        for text, row, expected in (("a", (0,) * 5, True), ("a", (0,) * 6, False), ("a" * 500, (0,), True),
-                                    ("a" * 501, (0,), False), ("a" * 2000, (0,), False), ("a", (0,) * 2999, False),
-                                    ("a" * 125, (0, 0), True), ("a" * 126, (0, 0), False)):
+        for text, row, expected in (("a", (0,) * 5, True), ("a", (0,) * 6, True), ("a" * 500, (0,), True),
+                                    ("a" * 501, (0,), True), ("a" * 2000, (0,), True), ("a" * 2001, (0,), False),
+                                    ("a", (0,) * 2999, True), ("a" * 126, (0, 0), True), ("", (0,) * 2999, False)):
             self.assertIs(shows_verdict([four], over, Clash(text, row)), expected)
-        # An image that was too long has more letters than a text for ever.
-        self.assertIs(shows_verdict([four, READ("a:b")], Right.over("ab"), Clash("a" * 501, (0, 1))), False)
-        self.assertIs(shows_verdict([four, READ("a:b")], Right.over("ab"), Clash("a" * 500, (0, 1))), True)
+        for made in ([four, READ("a:b")], [four, READ("a:b b:a")]):
+            for text in ("a" * 500, "a" * 501, "a" * 2000):
+                self.assertIs(shows_verdict(made, Right.over("ab"), Clash(text, (0, 1))), True)
+                self.assertIs(shows_verdict(made, Right.over("a"), Clash(text, (0, 1))), False)
+                self.assertIs(shows_verdict(made, Right.over("ab"), Clash(text, (0, 1, 0))), False)
+
+    def test_long_images_on_the_way(self):
+        # Right is what has one letter a more than a multiple of 3, and behind the first misreading none is right.
+        three, turn = READ("a:aaa b:b"), READ("a:b b:a")
+        thirds = Right(({"a": 1, "b": 0}, False), ({"a": 2, "b": 1}, True), ({"a": 0, "b": 2}, False))
+        for many in (1, 6, 7, 8, 100):
+            for text, expected in (("ab", True), ("a", False), ("abb", False), ("babbb", True), ("b", False)):
+                self.assertIs(shows_verdict([three, turn], thirds, Clash(text, (0,) * many)), False)
+                self.assertIs(shows_verdict([three, turn], thirds, Clash(text, (0,) * many + (1,))), expected)
+                self.assertIs(shows_verdict([three, turn], thirds, Clash(text, (0,) * many + (1, 1))), False)
+
+    def test_barred_behind_long_images(self):
+        made = [READ("a:aa b:b"), READ("a:a b:b"), READ("b:b"), READ("a:ac b:b")]
+        right = Right.over("abc")
+        for many in (1, 11, 12, 300):
+            self.assertIs(shows_verdict(made, right, Clash("ab", (0,) * many)), True)
+            self.assertIs(shows_verdict(made, right, Clash("ab", (0,) * many + (1,))), True)
+            self.assertIs(shows_verdict(made, right, Clash("ab", (0,) * many + (2,))), False)
+            self.assertIs(shows_verdict(made, right, Clash("ab", (0,) * many + (2, 0))), False)
+            self.assertIs(shows_verdict(made, right, Clash("ab", (0,) * many + (3,))), True)
+            self.assertIs(shows_verdict(made, right, Clash("ab", (0,) * many + (3, 1))), False)
+            self.assertIs(shows_verdict(made, right, Clash("b" * 2000, (0,) * many)), False)
+            self.assertIs(shows_verdict(made, right, Clash("b" * 1999 + "a", (0,) * many)), True)
+
+    def test_what_decide_and_risk_of_tell_is_right_at_any_length(self):
+        many = 0
+        for misreadings, right in some_cases(409, 400, "abc", longest=4, standings=5, misreadings=2):
+            try:
+                found = decide(misreadings, right)
+            except TooMany:
+                continue
+            if not found:
+                for row in (found.row, found.row + found.row, found.row * 5):
+                    expected = plain_clash_by(misreadings, right, found.text, row)
+                    self.assertIs(shows_verdict(misreadings, right, Clash(found.text, row)), expected)
+                    many += expected and len(row) > 4
+                self.assertIs(shows_verdict(misreadings, right, found), True)
+        self.assertGreater(many, 10)
 
 
 class CalmTests(Checks, unittest.TestCase):
