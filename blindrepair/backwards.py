@@ -41,3 +41,27 @@ def moves_from(fitting, text):
                      if text.startswith(image, at) and counts[at + len(image)]]
         counts[at] = sum([counts[to] for letter, to in moves[at]])
     return moves, counts
+
+
+def text_behind(fitting, text):
+    """The one text with an image by a misreading that is one to one, told by first letters; None if there is none."""
+    size = len(text)
+    chosen = [("", 0)] * size + [("", size)]
+    for at in range(size - 1, -1, -1):
+        chosen[at] = None
+        for letter, image in fitting.get(text[at], []):
+            to = at + len(image)
+            # If what stands behind is an image at all, it is that of one text: so one letter at most fits here.
+            if to <= size and chosen[to] is not None and text.startswith(image, at):
+                chosen[at] = (letter, to)
+    return None if chosen[0] is None else "".join(letters_along(chosen))
+
+
+def letters_along(chosen):
+    """The letters that are chosen from the beginning on, each told with the place behind its image."""
+    letters = []
+    letter, at = chosen[0]
+    while letter:
+        letters.append(letter)
+        letter, at = chosen[at]
+    return letters

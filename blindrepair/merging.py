@@ -1,7 +1,7 @@
 """Whether a misreading is one to one, with papers for both answers."""
 
 from blindrepair.checks import check_misreading
-from blindrepair.errors import TooMany
+from blindrepair.errors import Merging, TooMany
 from blindrepair.letters import is_text
 from blindrepair.look_meetings import right_leads
 from blindrepair.meetings import Meetings, leads_of, rests_of, unlike_meeting
@@ -84,5 +84,17 @@ def check_images(misreading):
 
 def check_length(misreading):
     """Raises an error for a Misreading with images that are too long for papers."""
-    if any([len(misreading[letter]) > LONGEST_IMAGE for letter in misreading]):
+    if has_long_image(misreading):
         raise TooMany("image", LONGEST_IMAGE)
+
+
+def has_long_image(misreading):
+    """Whether some image of a Misreading is too long for papers."""
+    return any([len(misreading[letter]) > LONGEST_IMAGE for letter in misreading])
+
+
+def check_one_to_one(misreading):
+    """Raises an error for what is no Misreading, or one that is not one to one."""
+    found = merging(misreading)
+    if not found:
+        raise Merging(found.one, found.other)

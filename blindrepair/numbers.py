@@ -1,8 +1,8 @@
 """Numbers: after how many misreadings by the same one a right text can be another right text."""
 
-from blindrepair.errors import BadNumber, Merging
+from blindrepair.errors import BadNumber
 from blindrepair.letters import is_between, is_integer
-from blindrepair.merging import merging
+from blindrepair.merging import check_one_to_one
 from blindrepair.powers import Powers
 from blindrepair.verdicts import clash_text
 
@@ -104,9 +104,7 @@ def least_remainder(misreading, right):
 def settling(misreading, right):
     """The Numbers, if the misreading is one to one."""
     numbers = numbers_of(misreading, right)
-    found = merging(misreading)
-    if not found:
-        raise Merging(found.one, found.other)
+    check_one_to_one(misreading)
     return numbers
 
 

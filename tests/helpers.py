@@ -6,6 +6,9 @@ from blindrepair.alike import Parted, Same
 from blindrepair.codes import ReadTable, WriteTable
 from blindrepair.effects import effect_of
 from blindrepair.errors import BadLetter, RepairError
+from blindrepair.fixers import Fixer
+from blindrepair.given_up import GivenUp
+from blindrepair.lost import Kept, KeptAll, Lost
 from blindrepair.merging import Merged, OneToOne
 from blindrepair.misreadings import Misreading
 from blindrepair.numbers import numbers_of
@@ -22,8 +25,10 @@ def any_values():
             ("a", "b"), ({}, True), ({"a": 0}, True), [({}, True)], ((((("a",),),),),), Misreading({"a": "b"}),
             Right.words("a"), effect_of([Misreading({"a": "b"})], Right.words("a"), (0,)),
             Clash("a", (0,)), Calm(()), Entry(None, None, (0,), ()),
-            Origin((), "a"), numbers_of(Misreading({"a": "b"}), Right.words("a")), Same((), ()), Parted("a"), WriteTable({"a": (97,)}), ReadTable({97: "a"}), OneToOne((), ()), Merged("a", "b"),
-            Sound(()), Unsound("a", 0, "b", 0), Alike((), ()), Still("one", (), ()), BadLetter(1), RepairError("no")]
+            Origin((), "a"), numbers_of(Misreading({"a": "b"}), Right.words("a")), Same((), ()), Parted("a"),
+            WriteTable({"a": (97,)}), ReadTable({97: "a"}), OneToOne((), ()), Merged("a", "b"), Sound(()),
+            Unsound("a", 0, "b", 0), Alike((), ()), Still("one", (), ()), Kept(1, ()), KeptAll(()), Lost(1, "a", "b"),
+            GivenUp("a", ()), Fixer(("ab", "a")), BadLetter(1), RepairError("no")]
 
 
 def values_but(fits):

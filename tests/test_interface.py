@@ -7,11 +7,15 @@ import unittest
 from blindrepair.alike import Parted, Same
 from blindrepair.codes import ReadTable, WriteTable
 from blindrepair.effects import Effect
+from blindrepair.fixers import Fixer
+from blindrepair.given_up import GivenUp
+from blindrepair.lost import Kept, KeptAll, Lost
 from blindrepair.merging import Merged, OneToOne
 from blindrepair.misreadings import Misreading
 from blindrepair.numbers import Numbers
 from blindrepair.origins import Origin
 from blindrepair.powers import Powers
+from blindrepair.repairs import Repair, Undoing
 from blindrepair.rights import Right
 from blindrepair.sound import Alike, Sound, Still, Unsound
 from blindrepair.verdicts import Calm, Clash, Entry
@@ -42,7 +46,12 @@ NAMES = {
                 "settles": ["misreading", "right", "q"], "least_remainder": ["misreading", "right"]},
     "marks": {"least_mark": ["misreadings", "letters", "most"], "shows_mark": ["misreadings", "letters", "mark"]},
     "alike": {"alike": ["one", "other", "right"], "Same": ["margins", "dead"], "Parted": ["text"],
-              "shows_alike": ["one", "other", "right", "paper"]}}
+              "shows_alike": ["one", "other", "right", "paper"]},
+    "lost": {"lost": ["misreading", "right", "number"], "ever_lost": ["misreading", "right"], "Kept": ["number", "dead"],
+             "KeptAll": ["keeps"], "Lost": ["number", "one", "other"], "shows_lost": ["misreading", "right", "paper"]},
+    "given_up": {"given_up": ["misreadings", "right"], "GivenUp": ["kept", "clashes"]},
+    "repairs": {"Repair": None, "Undoing": ["misreading"]},
+    "fixers": {"Fixer": ["pairs"]}}
 
 METHODS = {
     Misreading: {"__contains__": None, "__len__": [], "__iter__": [], "__getitem__": None, "__call__": ["text"],
@@ -65,7 +74,14 @@ METHODS = {
     Calm: {"__eq__": None, "__bool__": []}, Clash: {"__eq__": None, "__bool__": []}, Entry: {"__eq__": None},
     Origin: {"__eq__": None},
     Numbers: {"__contains__": None, "__len__": [], "__bool__": [], "__eq__": None, "walk": ["first"]},
-    Same: {"__eq__": None, "__bool__": []}, Parted: {"__eq__": None, "__bool__": []}}
+    Same: {"__eq__": None, "__bool__": []}, Parted: {"__eq__": None, "__bool__": []},
+    Kept: {"__eq__": None, "__bool__": []}, KeptAll: {"__eq__": None, "__bool__": []},
+    Lost: {"__eq__": None, "__bool__": []}, GivenUp: {"__eq__": None},
+    Repair: {"__call__": ["text"], "spoiled": ["right"]},
+    Undoing: {"undo": ["text"], "chain": ["text"], "__call__": ["text"], "until": ["text", "right"], "spoiled": ["right"]},
+    Fixer: {"of": ["misreading"], "__len__": [], "__iter__": [], "__eq__": None, "places": ["text"], "once": ["text"],
+            "__call__": ["text"], "spoiled": ["right"], "takes_back": ["misreading", "text"],
+            "stray": ["misreading", "right"]}}
 
 
 class InterfaceTests(unittest.TestCase):
@@ -94,7 +110,7 @@ class InterfaceTests(unittest.TestCase):
     def test_static_and_class_methods(self):
         for kind, name, sort in ((Misreading, "same", staticmethod), (Misreading, "read", classmethod),
                                  (Right, "words", staticmethod), (Right, "over", staticmethod),
-                                 (Right, "avoiding", staticmethod), (Right, "read", classmethod)):
+                                 (Right, "avoiding", staticmethod), (Right, "read", classmethod), (Fixer, "of", classmethod)):
             self.assertIs(type(vars(kind)[name]), sort)
 
     def test_attributes_are_set_on_each_object(self):

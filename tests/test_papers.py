@@ -2,6 +2,8 @@ import unittest
 
 from blindrepair import papers
 from blindrepair.alike import Parted, Same
+from blindrepair.given_up import GivenUp
+from blindrepair.lost import Kept, KeptAll, Lost
 from blindrepair.merging import Merged, OneToOne
 from blindrepair.misreadings import Misreading
 from blindrepair.origins import Origin
@@ -13,7 +15,8 @@ from tests.helpers import Checks, any_values, like
 FIELDS = {OneToOne: ["leads", "dead"], Merged: ["one", "other"], Sound: ["papers"],
           Unsound: ["one", "first", "other", "second"], Alike: ["leads", "dead"], Still: ["side", "living", "dead"],
           Calm: ["entries"], Clash: ["text", "row"], Entry: ["first", "parent", "nexts", "pairs"],
-          Origin: ["row", "text"], Same: ["margins", "dead"], Parted: ["text"]}
+          Origin: ["row", "text"], Same: ["margins", "dead"], Parted: ["text"],
+          Kept: ["number", "dead"], KeptAll: ["keeps"], Lost: ["number", "one", "other"], GivenUp: ["kept", "clashes"]}
 
 
 class PaperTests(Checks, unittest.TestCase):
@@ -98,7 +101,8 @@ class PaperTests(Checks, unittest.TestCase):
     def test_the_first_one_is_true_and_the_other_one_false(self):
         for paper, holds in ((OneToOne((), ()), True), (Merged("a", "b"), False), (Sound(()), True),
                              (Unsound("a", 0, "b", 0), False), (OneToOne(None, None), True), (Sound(None), True),
-                             (Calm(()), True), (Clash("a", (0,)), False), (Same((), ()), True), (Parted("a"), False)):
+                             (Calm(()), True), (Clash("a", (0,)), False), (Same((), ()), True), (Parted("a"), False),
+                             (Kept(1, ()), True), (KeptAll(()), True), (KeptAll(None), True), (Lost(1, "a", "b"), False)):
             self.assertIs(bool(paper), holds)
             self.assertIsInstance(paper, Verdict)
             for name in ("__init__", "__eq__", "__bool__"):
@@ -107,6 +111,7 @@ class PaperTests(Checks, unittest.TestCase):
         self.assertNotIsInstance(Still("one", (), ()), Verdict)
         self.assertNotIsInstance(Entry(None, None, (0,), ()), Verdict)
         self.assertNotIsInstance(Origin((), "a"), Verdict)
+        self.assertNotIsInstance(GivenUp("a", ()), Verdict)
 
     def test_verdict_is_defined_in_papers(self):
         self.assertEqual(Verdict.__module__, papers.__name__)
