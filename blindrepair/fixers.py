@@ -131,10 +131,15 @@ def check_pairs(pairs):
 
 def is_replacement(value):
     """Whether any value is a tuple of a row and a result that can take its place."""
-    if not isinstance(value, tuple) or len(value) != 2 or not all([is_text(part) for part in value]):
+    if not isinstance(value, tuple) or len(value) != 2:
         return False
     row, result = value
-    return 1 <= len(result) <= len(row) <= LONGEST_ROW and result != row
+    return is_row(row) and is_text(result) and 1 <= len(result) <= len(row) and result != row
+
+
+def is_row(value):
+    """Whether any value is a text of letters that can be replaced."""
+    return is_text(value) and 1 <= len(value) <= LONGEST_ROW
 
 
 def by_beginning(rows):

@@ -4,6 +4,7 @@ from blindrepair.errors import BadWord, TooMany
 
 LETTERS = "abcdefghijklmnopqrstuvwxyz"
 LONGEST = 2000
+LONGEST_NAME = 8
 
 
 def is_letter(value):
@@ -19,6 +20,11 @@ def is_text(value):
 def all_letters(string):
     """Whether a string has letters alone: of such a one nothing is left when letters are stripped."""
     return not string.strip(LETTERS)
+
+
+def is_name(value):
+    """Whether any value is a word that can be a name."""
+    return is_text(value) and 1 <= len(value) <= LONGEST_NAME
 
 
 def is_integer(value):

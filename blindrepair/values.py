@@ -34,3 +34,8 @@ def equal_dicts(one, other):
     kept = {key: key for key in other}
     return len(one) == len(other) and all(
         [key in kept and equal(key, kept[key]) and equal(one[key], other[key]) for key in one])
+
+
+def by_name(table):
+    """A dict with the same items, its keys, texts, ascending."""
+    return {name: table[name] for name in sorted([str(name) for name in table])}

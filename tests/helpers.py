@@ -4,6 +4,7 @@ import itertools
 
 from blindrepair.alike import Parted, Same
 from blindrepair.codes import ReadTable, WriteTable
+from blindrepair.desk import Desk
 from blindrepair.effects import effect_of
 from blindrepair.errors import BadLetter, RepairError
 from blindrepair.fixers import Fixer
@@ -11,10 +12,13 @@ from blindrepair.given_up import GivenUp
 from blindrepair.lost import Kept, KeptAll, Lost
 from blindrepair.merging import Merged, OneToOne
 from blindrepair.misreadings import Misreading
+from blindrepair.mixed import Blurred, Readable
 from blindrepair.numbers import numbers_of
 from blindrepair.origins import Origin
+from blindrepair.repairs import Undoing
 from blindrepair.rights import Right
 from blindrepair.sound import Alike, Sound, Still, Unsound
+from blindrepair.stores import Store
 from blindrepair.verdicts import Calm, Clash, Entry
 
 
@@ -28,7 +32,9 @@ def any_values():
             Origin((), "a"), numbers_of(Misreading({"a": "b"}), Right.words("a")), Same((), ()), Parted("a"),
             WriteTable({"a": (97,)}), ReadTable({97: "a"}), OneToOne((), ()), Merged("a", "b"), Sound(()),
             Unsound("a", 0, "b", 0), Alike((), ()), Still("one", (), ()), Kept(1, ()), KeptAll(()), Lost(1, "a", "b"),
-            GivenUp("a", ()), Fixer(("ab", "a")), BadLetter(1), RepairError("no")]
+            GivenUp("a", ()), Fixer(("ab", "a")), Undoing(Misreading({"a": "b"})), Readable((), ()),
+            Blurred("a", (0,), "b", (0,)), Store([Misreading({"a": "b"})], Right.words("a")), Desk(), BadLetter(1),
+            RepairError("no")]
 
 
 def values_but(fits):

@@ -132,13 +132,15 @@ def module_level(file):
 
 def forbidden_nodes(file):
     for node in file.nodes(ast.Global, ast.AsyncFunctionDef, ast.AsyncFor, ast.AsyncWith, ast.Await, ast.GeneratorExp,
-                           ast.Div, ast.Set, ast.SetComp, ast.AnnAssign, ast.Try, ast.With, ast.Match, ast.NamedExpr):
+                           ast.Div, ast.Set, ast.SetComp, ast.AnnAssign, ast.Match, ast.NamedExpr, ast.Lambda,
+                           ast.Nonlocal):
         yield "L6/L7/L24", getattr(node, "lineno", 0), type(node).__name__
     for node in file.functions():
         if node.returns or any(each.annotation for each in node.args.args):
             yield "L21", node.lineno, "annotation"
         for each in node.decorator_list:
-            if not isinstance(each, ast.Name) or each.id not in ("staticmethod", "classmethod", "property"):
+            setter = isinstance(each, ast.Attribute) and each.attr == "setter" and each.value.id == node.name
+            if not setter and (not isinstance(each, ast.Name) or each.id not in ("staticmethod", "classmethod", "property")):
                 yield "L4", node.lineno, "decorator"
     for node in file.nodes(ast.Compare):
         sides = [node.left, *node.comparators]
@@ -149,8 +151,49 @@ def forbidden_nodes(file):
         literal = isinstance(node.right, ast.Constant) and isinstance(node.left, ast.Constant)
         if isinstance(node.op, ast.Pow) and not literal:
             yield "L27", node.lineno, "power"
-        if isinstance(node.op, ast.Mod) and not (isinstance(node.left, ast.BinOp) and isinstance(node.left.op, ast.Sub)):
+        number = called(node.left) == "len" or (isinstance(node.left, ast.BinOp) and isinstance(node.left.op, ast.Sub))
+        if isinstance(node.op, ast.Mod) and not number:
             yield "L7", node.lineno, "remainder of what is not plainly a number"
+
+
+def blocks(file, own_errors):
+    """L6, L19: what stands in try and with statements, and in __exit__."""
+    for node in file.nodes(ast.Try):
+        if node.finalbody or node.orelse:
+            yield "L6", node.lineno, "finally or else"
+        for handler in node.handlers:
+            if not isinstance(handler.type, ast.Name) or handler.type.id not in own_errors:
+                yield "L19", handler.lineno, "what is caught is no error of the package"
+            reads = [each for each in ast.walk(handler) if isinstance(each, ast.Name) and each.id == handler.name]
+            for each in reads:
+                if not isinstance(file.above[each], ast.Attribute) or file.above[each].attr == "args":
+                    yield "L19", each.lineno, "a caught error is not read by an attribute"
+    for node in file.nodes(ast.Raise):
+        if node.exc is None:
+            above = node
+            while not isinstance(above, (ast.ExceptHandler, *FUNCTIONS)):
+                above = file.above[above]
+            if not isinstance(above, ast.ExceptHandler):
+                yield "L19", node.lineno, "bare raise outside of a handler"
+        elif called(node.exc) is None:
+            yield "L19", node.lineno, "the error is not created on the spot"
+    for node in file.nodes(ast.With):
+        for item in node.items:
+            if not isinstance(item.context_expr, (ast.Call, ast.Name, ast.Attribute)):
+                yield "L6", node.lineno, "with"
+        if any(isinstance(each, (ast.Yield, ast.YieldFrom)) for each in ast.walk(node)):
+            yield "L23", node.lineno, "yield in a with"
+    for node in file.functions():
+        if node.name == "__exit__":
+            for each in node.body:
+                plain = isinstance(each, ast.Assign) and all(
+                    isinstance(part, (ast.Assign, ast.Attribute, ast.Name, ast.expr_context)) for part in ast.walk(each))
+                if not plain or any(isinstance(part, ast.Name) and part.id in ("value", "trace") for part in ast.walk(each)):
+                    yield "L6", each.lineno, "__exit__"
+    for node in file.nodes(ast.Attribute):
+        if node.attr == "__class__" and not (isinstance(file.above[node], ast.Attribute)
+                                             and file.above[node].attr == "__name__"):
+            yield "L8", node.lineno, "__class__"
 
 
 def names(file):
@@ -315,17 +358,19 @@ def all_faults(texts):
     """All faults of the files of a package, a dict from names to texts: (file, rule, line, what)."""
     files = [File(name, text) for name, text in sorted(texts.items())]
     own_methods = {node.name for file in files for node in file.functions()}
+    own_errors = {node.name for file in files for node in file.classes() if file.name == "errors.py"}
     found = []
     for file in files:
         for check in (sizes, characters, words, imports, module_level, forbidden_nodes, names, classes):
             found += [(file.name, *fault) for fault in check(file)]
         found += [(file.name, *fault) for fault in calls(file, own_methods)]
+        found += [(file.name, *fault) for fault in blocks(file, own_errors)]
     return found + list(operators(files)) + list(cycles(files)) + list(origins(files)) + list(shared_names(files))
 
 
 def marks(node):
     """The names of the decorators of a function."""
-    return [each.id for each in node.decorator_list if isinstance(each, ast.Name)]
+    return [each.id if isinstance(each, ast.Name) else each.attr for each in node.decorator_list]
 
 
 def shared_names(files):
@@ -333,8 +378,11 @@ def shared_names(files):
     stored = [(file, node) for file in files for node in file.nodes(ast.Attribute) if isinstance(node.ctx, ast.Store)]
     functions = [(file, node) for file in files for node in file.functions()]
     plain = {node.name for file, node in functions if not marks(node)}
-    marked = {node.name: marks(node)[0] for file, node in functions if marks(node)}
+    marked = {node.name: marks(node)[0] for file, node in functions if marks(node) and marks(node) != ["setter"]}
+    methods_of_classes = {node.name for file, node in functions if isinstance(file.above[node], ast.ClassDef)}
     for file, node in stored:
+        if node.attr in methods_of_classes:
+            yield file.name, "L18", node.lineno, f"{node.attr} is stored, and it is a method"
         if node.attr in marked:
             yield file.name, "L5", node.lineno, f"{node.attr} is stored, and it is a {marked[node.attr]} elsewhere"
     for file, node in functions:

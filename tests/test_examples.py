@@ -40,4 +40,4 @@ class ExampleTests(unittest.TestCase):
                 else:
                     self.assertEqual(outcome(line, names), expected)
                     compared += 1
-        self.assertEqual(compared, 57)
+        self.assertEqual(compared, 70)

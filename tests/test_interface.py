@@ -1,4 +1,4 @@
-"""Names, files, arguments and attributes of the interface, for what has been built so far."""
+"""Names, files, arguments and attributes of the interface."""
 
 import importlib
 import inspect
@@ -6,18 +6,21 @@ import unittest
 
 from blindrepair.alike import Parted, Same
 from blindrepair.codes import ReadTable, WriteTable
+from blindrepair.desk import Desk
 from blindrepair.effects import Effect
 from blindrepair.fixers import Fixer
 from blindrepair.given_up import GivenUp
 from blindrepair.lost import Kept, KeptAll, Lost
 from blindrepair.merging import Merged, OneToOne
 from blindrepair.misreadings import Misreading
+from blindrepair.mixed import Blurred, Readable
 from blindrepair.numbers import Numbers
 from blindrepair.origins import Origin
 from blindrepair.powers import Powers
 from blindrepair.repairs import Repair, Undoing
 from blindrepair.rights import Right
 from blindrepair.sound import Alike, Sound, Still, Unsound
+from blindrepair.stores import Store
 from blindrepair.verdicts import Calm, Clash, Entry
 
 NAMES = {
@@ -51,7 +54,15 @@ NAMES = {
              "KeptAll": ["keeps"], "Lost": ["number", "one", "other"], "shows_lost": ["misreading", "right", "paper"]},
     "given_up": {"given_up": ["misreadings", "right"], "GivenUp": ["kept", "clashes"]},
     "repairs": {"Repair": None, "Undoing": ["misreading"]},
-    "fixers": {"Fixer": ["pairs"]}}
+    "fixers": {"Fixer": ["pairs"]},
+    "mixed": {"mixed": ["misreading", "letters", "most"], "Readable": ["leads", "dead"],
+              "Blurred": ["one", "counts", "other", "others"], "shows_mixed": ["misreading", "letters", "most", "value"]},
+    "stores": {"Store": ["misreadings", "right", "limit"]},
+    "texts": {"write_misreadings": ["misreadings"], "write_right": ["right"], "write_fixer": ["fixer"],
+              "write_table": ["table"]},
+    "reader": {"read": ["text"], "read_misreadings": ["text"], "read_right": ["text"], "read_fixer": ["text"],
+               "read_table": ["text"]},
+    "desk": {"Desk": []}}
 
 METHODS = {
     Misreading: {"__contains__": None, "__len__": [], "__iter__": [], "__getitem__": None, "__call__": ["text"],
@@ -81,7 +92,14 @@ METHODS = {
     Undoing: {"undo": ["text"], "chain": ["text"], "__call__": ["text"], "until": ["text", "right"], "spoiled": ["right"]},
     Fixer: {"of": ["misreading"], "__len__": [], "__iter__": [], "__eq__": None, "places": ["text"], "once": ["text"],
             "__call__": ["text"], "spoiled": ["right"], "takes_back": ["misreading", "text"],
-            "stray": ["misreading", "right"]}}
+            "stray": ["misreading", "right"]},
+    Readable: {"__eq__": None, "__bool__": []}, Blurred: {"__eq__": None, "__bool__": []},
+    Store: {"__getitem__": None, "__setitem__": None, "put": ["name", "text"], "drop": ["name"], "__len__": [],
+            "__iter__": [], "__contains__": None, "between": ["first", "last"], "set_limit": ["value"],
+            "misread": ["index", "names"], "__irshift__": None, "repair": [], "doubtful": [], "undo": [], "trial": [],
+            "tried": ["work"]},
+    Desk: {"say": ["line"], "__call__": ["line"], "say_all": ["lines"], "__len__": [], "__iter__": [],
+           "__contains__": None}}
 
 
 class InterfaceTests(unittest.TestCase):
@@ -125,8 +143,12 @@ class InterfaceTests(unittest.TestCase):
         self.assertEqual(vars(Right)["MOST"], 8)
         self.assertEqual(inspect.signature(Effect.behind).parameters["start"].default, 0)
         self.assertEqual(inspect.signature(Numbers.walk).parameters["first"].default, 1)
+        limit = inspect.signature(Store).parameters["limit"]
+        self.assertEqual((limit.default, limit.kind), (40, inspect.Parameter.KEYWORD_ONLY))
 
     def test_properties(self):
         for kind in (Powers, Numbers):
             for name in ("begin", "period"):
                 self.assertIs(type(vars(kind)[name]), property)
+        for name in ("limit", "log"):
+            self.assertIs(type(vars(Store)[name]), property)

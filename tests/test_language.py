@@ -47,6 +47,12 @@ class LanguageTests(unittest.TestCase):
                 ("L18", "class A:\n    def b(self):\n        self.b = 1\n"),
                 ("L5", "class A:\n    @property\n    def b(self):\n        return 1\n\n\ndef f(x):\n    x.b = 1\n"),
                 ("L23", "def f(x):\n    yield x\n\n\nclass A:\n    def f(self):\n        return 1\n"),
+                ("L19", "def f(x):\n    try:\n        return x[0]\n    except Exception:\n        return 1\n"),
+                ("L19", "def f(x):\n    raise x\n"), ("L19", "def f(x):\n    raise\n"),
+                ("L6", "class A:\n    def __exit__(self, kind, value, trace):\n        self.a = self.b + 1\n"),
+                ("L6", "def f(x):\n    try:\n        x.a = 1\n    finally:\n        x.a = 2\n"),
+                ("L8", "def f(x):\n    return x.__class__\n"),
+                ("L18", "class A:\n    def b(self):\n        return 1\n\n\nclass B:\n    def c(self):\n        self.b = 1\n"),
                 ("L27", "X = \"%\"\n"), ("L28", "class A:\n    def __len__(self):\n        return self.n\n")):
             self.assertIn(rule, [fault[1] for fault in all_faults({"file.py": text})], text)
 

@@ -2,13 +2,17 @@ import unittest
 
 from blindrepair import papers
 from blindrepair.alike import Parted, Same
+from blindrepair.desk import Desk
 from blindrepair.given_up import GivenUp
 from blindrepair.lost import Kept, KeptAll, Lost
 from blindrepair.merging import Merged, OneToOne
 from blindrepair.misreadings import Misreading
+from blindrepair.mixed import Blurred, Readable
 from blindrepair.origins import Origin
 from blindrepair.papers import Verdict
+from blindrepair.repairs import Undoing
 from blindrepair.sound import Alike, Sound, Still, Unsound
+from blindrepair.stores import Store
 from blindrepair.verdicts import Calm, Clash, Entry
 from tests.helpers import Checks, any_values, like
 
@@ -16,7 +20,8 @@ FIELDS = {OneToOne: ["leads", "dead"], Merged: ["one", "other"], Sound: ["papers
           Unsound: ["one", "first", "other", "second"], Alike: ["leads", "dead"], Still: ["side", "living", "dead"],
           Calm: ["entries"], Clash: ["text", "row"], Entry: ["first", "parent", "nexts", "pairs"],
           Origin: ["row", "text"], Same: ["margins", "dead"], Parted: ["text"],
-          Kept: ["number", "dead"], KeptAll: ["keeps"], Lost: ["number", "one", "other"], GivenUp: ["kept", "clashes"]}
+          Kept: ["number", "dead"], KeptAll: ["keeps"], Lost: ["number", "one", "other"], GivenUp: ["kept", "clashes"],
+          Readable: ["leads", "dead"], Blurred: ["one", "counts", "other", "others"]}
 
 
 class PaperTests(Checks, unittest.TestCase):
@@ -36,8 +41,10 @@ class PaperTests(Checks, unittest.TestCase):
                         self.assertFalse(one != other)
 
     def test_they_are_equal_if_all_attributes_are(self):
-        lefts = [value for value in any_values() if not isinstance(value, ValueError)]
-        rights = [value for value in any_values() if not isinstance(value, ValueError)]
+        # Errors, Undoings, Stores and Desks equal nothing but themselves.
+        same = (ValueError, Undoing, Store, Desk)
+        lefts = [value for value in any_values() if not isinstance(value, same)]
+        rights = [value for value in any_values() if not isinstance(value, same)]
         for kind, fields in FIELDS.items():
             for at in range(len(fields)):
                 before, behind = ["x"] * at, ["x"] * (len(fields) - at - 1)
@@ -102,7 +109,8 @@ class PaperTests(Checks, unittest.TestCase):
         for paper, holds in ((OneToOne((), ()), True), (Merged("a", "b"), False), (Sound(()), True),
                              (Unsound("a", 0, "b", 0), False), (OneToOne(None, None), True), (Sound(None), True),
                              (Calm(()), True), (Clash("a", (0,)), False), (Same((), ()), True), (Parted("a"), False),
-                             (Kept(1, ()), True), (KeptAll(()), True), (KeptAll(None), True), (Lost(1, "a", "b"), False)):
+                             (Kept(1, ()), True), (KeptAll(()), True), (KeptAll(None), True), (Lost(1, "a", "b"), False),
+                             (Readable((), ()), True), (Blurred("a", (0,), "b", (0,)), False)):
             self.assertIs(bool(paper), holds)
             self.assertIsInstance(paper, Verdict)
             for name in ("__init__", "__eq__", "__bool__"):
