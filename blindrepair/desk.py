@@ -98,10 +98,10 @@ def told_words(line):
     for at in range(1, len(words)):
         if at > len(kinds) or not fits(words[at], kinds[at - 1]):
             raise BadCommand(at)
-    if words[0] == "misreading":
-        check_images(words)
     if len(words) <= len(needed) or (words[0] == "fixer" and len(words) % 2 == 1):
         raise BadCommand(len(words))
+    if words[0] == "misreading":
+        check_images(words)
     return words
 
 
@@ -116,11 +116,10 @@ def fits(word, kind):
 
 def check_images(words):
     """Raises an error for a line the images of which are no str of a Misreading."""
-    if len(words) > 2:
-        try:
-            Misreading.read(" ".join(words[2:]))
-        except BadText as error:
-            raise BadCommand(2 + error.word) from None
+    try:
+        Misreading.read(" ".join(words[2:]))
+    except BadText as error:
+        raise BadCommand(2 + error.word) from None
 
 
 def text_of(word):

@@ -60,7 +60,6 @@ class Fixer(Repair):
         return "".join(parts) + text[done:]
 
     def __call__(self, text):
-        check_text(text)
         reached = text
         mark = text
         steps = 0

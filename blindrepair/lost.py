@@ -4,7 +4,7 @@ from blindrepair.checks import check_misreading, check_right
 from blindrepair.effects import letters_of
 from blindrepair.errors import BadNumber, TooMany
 from blindrepair.letters import all_letters, is_between, is_index
-from blindrepair.merging import check_images, has_long_image, merging
+from blindrepair.merging import has_long_image, merging
 from blindrepair.papers import Verdict
 from blindrepair.values import copied, equal
 
@@ -76,7 +76,6 @@ def ever_lost(misreading, right):
     """Whether no number of misreadings loses anything: KeptAll, or the Lost of the least number that does."""
     check_misreading(misreading)
     check_right(right)
-    check_images(misreading)
     if merging(misreading):
         return KeptAll(())
     keeps = []

@@ -53,7 +53,6 @@ class Undoing(Repair):
                 return
 
     def __call__(self, text):
-        check_text(text)
         last = text
         for reached in self.chain(text):
             last = reached

@@ -397,7 +397,9 @@ class ShowsTests(Checks, unittest.TestCase):
         kept = lost(both, right, 1)
         self.assertEqual(len(kept.dead), 1)
         self.assertIs(shows_lost(both, right, kept), True)
-        self.assertIs(shows_lost(both, right, Kept(1, kept.dead + ((0, "", 0, 0),))), False)
+        self.assertIs(shows_lost(both, right, Kept(1, kept.dead + ((1, "", 1, 2),))), False)
+        self.assertIs(shows_lost(both, right, Kept(1, kept.dead + ((0, "", 2, 1), (1, "x", 0, 1)))), False)
+        self.assertIs(shows_lost(both, right, Kept(1, kept.dead + ((0, "", 2, 1),))), True)
 
     def test_rests_of_any_values(self):
         once, right = READ("e:xc f:f x:x"), Right.over("efx")
