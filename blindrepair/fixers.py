@@ -75,7 +75,7 @@ class Fixer(Repair):
             # The mark moves on behind 1, 2, 4 and so on steps, so that it comes to stand on any ring.
             if steps == wait:
                 mark = reached
-                wait += wait
+                wait = 2 * wait
                 steps = 0
 
     def spoiled(self, right):

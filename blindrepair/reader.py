@@ -6,7 +6,7 @@ from blindrepair.errors import BadText
 from blindrepair.fixers import MOST_PAIRS, Fixer, is_replacement, is_row
 from blindrepair.letters import is_letter
 from blindrepair.misreadings import Misreading
-from blindrepair.rights import Right, told_standings
+from blindrepair.rights import Right
 
 
 def read_misreadings(text):
@@ -27,11 +27,10 @@ def read_right(text):
     lines = told_lines(text, ["right"])
     if len(lines) == 1:
         raise BadText(1, 0)
-    check_standings_in(lines[1])
-    # Only where each word and each line can stand, a machine is told that is reduced or not.
+    right = right_in(lines[1])
     if len(lines) > 2:
         raise BadText(2, 0)
-    return right_in(lines[1])
+    return right
 
 
 def read_fixer(text):
@@ -85,14 +84,6 @@ def misreading_in(line, at):
         return Misreading.read(line)
     except BadText as error:
         raise BadText(at, error.word) from None
-
-
-def check_standings_in(line):
-    """Raises an error for a line that tells no machine."""
-    try:
-        told_standings(line.split(" "), Right.MOST)
-    except BadText as error:
-        raise BadText(1, error.word) from None
 
 
 def right_in(line):

@@ -25,6 +25,8 @@ WORDS = re.compile(r"\b(type|typing|typing_extensions|enum|Enum|IntEnum|StrEnum|
                    r"namedtuple|NamedTuple|TypedDict|TYPE_CHECKING|abstractmethod)\b|dataclass|overload|contextmanager")
 NOT_ATTRIBUTES = set("""items keys values pop update append clear extend insert remove reverse setdefault sort args encode
 decode hex fromhex format format_map mro as_integer_ratio bit_count conjugate from_bytes is_integer to_bytes""".split())
+CHANGERS = {"append", "clear", "extend", "insert", "pop", "remove", "reverse", "setdefault", "update", "sort", "add",
+            "discard"}
 LAZY = {"zip", "enumerate", "reversed", "range", "map"}
 TAKERS = {"list", "tuple", "dict", "sorted", "sum", "any", "all", "enumerate", "zip", "min", "max"}
 FUNCTIONS = (ast.FunctionDef, ast.AsyncFunctionDef)
@@ -306,8 +308,7 @@ def changes(function):
             if not isinstance(node.target, ast.Name) or not literal:
                 yield node.lineno, "in-place"
         elif isinstance(node, ast.Call) and isinstance(node.func, ast.Attribute):
-            if node.func.attr in ("append", "clear", "extend", "insert", "pop", "remove", "reverse", "setdefault", "update",
-                                  "sort", "add", "discard"):
+            if node.func.attr in CHANGERS:
                 yield node.lineno, node.func.value
         elif isinstance(node, ast.Delete):
             yield node.lineno, "del"
@@ -361,11 +362,60 @@ def all_faults(texts):
     own_errors = {node.name for file in files for node in file.classes() if file.name == "errors.py"}
     found = []
     for file in files:
-        for check in (sizes, characters, words, imports, module_level, forbidden_nodes, names, classes):
+        for check in (sizes, characters, words, imports, module_level, forbidden_nodes, names, classes,
+                      changes_of_what_is_read):
             found += [(file.name, *fault) for fault in check(file)]
         found += [(file.name, *fault) for fault in calls(file, own_methods)]
         found += [(file.name, *fault) for fault in blocks(file, own_errors)]
     return found + list(operators(files)) + list(cycles(files)) + list(origins(files)) + list(shared_names(files))
+
+
+def changed_in_place(node):
+    """What a node changes without giving it a name anew, None if it changes nothing."""
+    if isinstance(node, ast.AugAssign):
+        return node.target
+    if isinstance(node, ast.Subscript) and isinstance(node.ctx, (ast.Store, ast.Del)):
+        return node.value
+    if isinstance(node, ast.Call) and isinstance(node.func, ast.Attribute) and node.func.attr in CHANGERS:
+        return node.func.value
+    return None
+
+
+def gone_over(node):
+    """All that a loop over a value goes over."""
+    if called(node) in ("enumerate", "zip", "reversed"):
+        return [part for each in node.args for part in gone_over(each)]
+    if isinstance(node, ast.Call) and isinstance(node.func, ast.Attribute) and node.func.attr in ("items", "keys", "values"):
+        return [node.func.value]
+    if isinstance(node, ast.IfExp):
+        return gone_over(node.body) + gone_over(node.orelse)
+    if isinstance(node, ast.BoolOp):
+        return [part for each in node.values for part in gone_over(each)]
+    return [node]
+
+
+def loops(file):
+    """The pairs of what a loop or a comprehension goes over and the nodes inside it."""
+    for node in file.nodes(ast.For):
+        yield gone_over(node.iter), [part for each in node.body for part in ast.walk(each)]
+    for node in file.nodes(*COMPREHENSIONS, ast.GeneratorExp):
+        yield [part for each in node.generators for part in gone_over(each.iter)], list(ast.walk(node))
+
+
+def changes_of_what_is_read(file):
+    """L5, L23: nothing gets itself while it is changed, and no loop changes what it goes over."""
+    pairs = [(node, node.target, node.value) for node in file.nodes(ast.AugAssign)]
+    pairs += [(node, node.func.value, each) for node in file.nodes(ast.Call) if isinstance(node.func, ast.Attribute)
+              and node.func.attr in ("extend", "update") for each in node.args]
+    for node, target, handed in pairs:
+        if ast.unparse(target) in [ast.unparse(part) for part in ast.walk(handed) if isinstance(part, ast.expr)]:
+            yield "L5", node.lineno, "what is changed gets what it changes"
+    for over, inside in loops(file):
+        told = [ast.unparse(each) for each in over]
+        for node in inside:
+            target = changed_in_place(node)
+            if target is not None and ast.unparse(target) in told:
+                yield "L23", node.lineno, "a loop changes what it goes over"
 
 
 def marks(node):

@@ -5,7 +5,7 @@ import re
 
 
 def plain_fault(text, heads=("misreadings", "right", "fixer", "write", "read")):
-    """The line and the word of which BadText tells, None if the text is right but for a Right that is not reduced."""
+    """The line and the word of which BadText tells, None if the text is right."""
     if type(text) is not str:
         return 0, 0
     lines = [line.split(" ") for line in text.split("\n")]
@@ -54,7 +54,26 @@ def right_fault(words, last):
         else:
             return at
     numbers = [int(word[2]) for word in words if ">" in word]
-    return len(words) if steps is None or max(numbers, default=0) >= standings else None
+    if steps is None or max(numbers, default=0) >= standings:
+        return len(words)
+    return None if is_reduced([row.split() for row in " ".join(words).split(" / ")]) else 0
+
+
+def is_reduced(rows):
+    """Whether the words of standings tell a reduced machine."""
+    if rows == [["-"]]:
+        return True
+    steps = [{word[0]: int(word[2]) for word in row if ">" in word} for row in rows]
+    met = [0]
+    for at in met:
+        met += [to for to in dict.fromkeys(steps[at].values()) if to not in met]
+    leading = kinds = [row[0] == "end" for row in rows]
+    for _ in rows:
+        leading = [leads or any(leading[to] for to in told.values()) for leads, told in zip(leading, steps)]
+        # Standings are of one kind as long as no text of so many letters tells them apart.
+        signs = [(kind, [(letter, kinds[to]) for letter, to in told.items()]) for kind, told in zip(kinds, steps)]
+        kinds = [signs.index(sign) for sign in signs]
+    return met == list(range(len(rows))) and all(leading) and len(set(kinds)) == len(rows)
 
 
 def pair_fault(words, last):

@@ -105,7 +105,7 @@ class SpoiltTests(Checks, unittest.TestCase):
         places, many = set(), 0
         for text in TEXTS:
             self.assertIsNone(plain_fault(text))
-            for wrong in spoilt(text):
+            for wrong in [wrong + more for wrong in spoilt(text) for more in ("", "\nend")]:
                 for reading, heads in HEADS.items():
                     if reading is read or wrong.split("\n")[0].split(" ")[0] in heads:
                         self.compare(reading, wrong, plain_fault(wrong, heads))
@@ -118,14 +118,7 @@ class SpoiltTests(Checks, unittest.TestCase):
         if fault is not None:
             self.assertRaisesWith(BadText, fault, reading, text)
             return
-        try:
-            made = reading(text)
-        except BadText as error:
-            # A Right that is not reduced: its standings tell another text.
-            self.assertTrue(text.startswith("right\n"))
-            self.assertEqual((error.line, error.word), (1, 0))
-            self.assertRaisesWith(BadText, (0, 0), Right.read, text[len("right\n"):])
-            return
+        made = reading(text)
         write = {list: write_misreadings, Right: write_right, Fixer: write_fixer, WriteTable: write_table,
                  ReadTable: write_table}[type(made)]
         self.assertEqual(write(made), text)
@@ -193,11 +186,25 @@ class SpoiltTests(Checks, unittest.TestCase):
         self.assertEqual([row for row, result in read_fixer("fixer\na b\nab a\nb a")], ["a", "ab", "b"])
 
     def test_rights_that_are_not_reduced(self):
-        for line in ("end a>1 / end", "end a>1 b>1 / end a>1 b>1", "a>0", "- / end", "a>2 b>1 / end / -", "a>1 / a>1", "end / end"):
-            if line != "end a>1 / end":
-                self.assertRaisesWith(BadText, (1, 0), read_right, "right\n" + line)
-                self.assertRaisesWith(BadText, (2, 0), read_right, "right\n" + line + "\nend")
-        self.assertRaisesWith(BadText, (1, 2), read_right, "right\na>0 / x\nend")
+        for line in ("end a>1 b>1 / end a>1 b>1", "a>0", "- / end", "a>2 b>1 / end / -", "a>1 / a>1", "end / end", "end a>1 / end a>1",
+                     "b>2 / b>2 c>2 / end", "a>2 b>1 / end / end a>2", "end a>1 / a>1"):
+            self.assertRaisesWith(BadText, (0, 0), Right.read, line)
+            # What is behind the first line that cannot stand is not told.
+            for behind in ("", "\nend", "\n", "\nx\ny", "\n" + line, "\nabcdefghi", "\n-\n"):
+                for reading in (read, read_right):
+                    self.assertRaisesWith(BadText, (1, 0), reading, "right\n" + line + behind)
+
+    def test_a_second_line_of_a_right_behind_a_line_that_can_stand(self):
+        for line in ("-", "end", "end a>0", "end a>1 / end", "a>1 b>2 / b>2 c>2 / end"):
+            for behind in ("\nend", "\n", "\nx\ny", "\n" + line, "\na>0", "\n-\n"):
+                for reading in (read, read_right):
+                    self.assertRaisesWith(BadText, (2, 0), reading, "right\n" + line + behind)
+
+    def test_a_word_of_a_right_that_cannot_stand_ahead_of_a_line_too_many(self):
+        for line, word in (("a>0 / x", 2), ("a>1 /", 2), ("a>1", 1), ("a>1 / end a>2", 4), ("A", 0), ("", 0), ("end end", 1), ("- / a>2 /", 4)):
+            for behind in ("", "\nend", "\n", "\nx"):
+                for reading in (read, read_right):
+                    self.assertRaisesWith(BadText, (1, word), reading, "right\n" + line + behind)
 
     def test_the_word_of_a_line_is_that_of_its_own_read(self):
         for line in ("a:b a:c", "b:b a:b", "a:bcdef", "-  ", "- a:b", "a:b  b:c", "", " ", "a:b c"):
